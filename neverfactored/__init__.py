@@ -1,0 +1,1 @@
+"""Neverfactored: programs over letters that are only named by equations."""
