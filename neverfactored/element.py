@@ -60,8 +60,8 @@ def make_element(rows, many):
 
 def gathered(sums):
     """Return the element of a dict that tells a quotient for each tuple of exponents."""
-    couples = [couple for couple in sums.items() if couple[1] != QUOTIENT_ZERO]
-    return tuple(sorted(couples, key=lambda couple: couple[0][::-1]))
+    rows = [(exponents[::-1], quotient) for exponents, quotient in sums.items() if quotient != QUOTIENT_ZERO]
+    return tuple([(order[::-1], quotient) for order, quotient in sorted(rows, key=lambda row: row[0])])
 
 
 def constant_element(quotient, many):

@@ -8,6 +8,8 @@ from neverfactored.elementtext import read_element, read_poly
 from neverfactored.polys import make_poly
 from neverfactored.quotients import make_quotient, ratio_quotient
 from neverfactored.ratios import make_ratio
+from neverfactored.systems import System
+from neverfactored.towers import Tower
 
 # Things of many kinds that are none of what the package passes about.
 ODD_THINGS = (None, True, False, 0, 1, -1, 1.0, 0.5, "", "x", "xy", b"x", [], (), {}, set(), object(), int, len,
@@ -79,6 +81,38 @@ def some_element(dice, many, terms=4, power=3, with_t=True):
         exponents = tuple(dice.randint(0, power) for _ in range(many))
         rows.append((exponents, some_quotient(dice, with_t and dice.random() < 0.5)))
     return make_element(rows, many)
+
+
+def parsed(lines):
+    """Return the letters and the equations of lines such as "x: x**2 - 2"; t is free if it is no letter."""
+    letters, equations = [], []
+    for line in lines:
+        letter, text = line.split(":")
+        letters.append(letter)
+        equations.append(read_element(text, letters))
+    return letters, equations
+
+
+def tower(*lines):
+    """Return the tower of lines such as "x: x**2 - 2"."""
+    return Tower(*parsed(lines))
+
+
+def system(*lines, free=False, special=False):
+    """Return the system of lines such as "x: x**2 - 2"."""
+    return System(*parsed(lines), free, special=special)
+
+
+def some_tower(dice, degrees, with_t=False):
+    """Return a tower with these degrees by dice, over the first of the letters x, y, z and u."""
+    found = Tower((), ())
+    for place, degree in enumerate(degrees):
+        many = place + 1
+        rows = [(tuple(dice.randrange(bound) for bound in degrees[:many]),
+                 some_quotient(dice, with_t and dice.random() < 0.4)) for _ in range(3)]
+        rows.append(((0,) * place + (degree,), (((1, 1),), ((1, 1),))))
+        found = found.with_equation("xyzu"[place], make_element(rows, many))
+    return found
 
 
 def dice_of(seed):
