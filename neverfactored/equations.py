@@ -29,12 +29,10 @@ def is_monic(element):
     """Return whether an element over one letter or more is monic in its last letter."""
     if not element:
         return False
+    # The terms are in order: of those with the greatest power the one without other letters is the first. So if it
+    # is the last of all, no other one has this power.
     exponents, quotient = element[-1]
-    degree = exponents[-1]
-    if degree < 1 or quotient != QUOTIENT_ONE or exponents[:-1] != (0,) * (len(exponents) - 1):
-        return False
-    # The terms are in order, so a second one with the greatest power would stand just ahead.
-    return len(element) == 1 or element[-2][0][-1] < degree
+    return exponents[-1] >= 1 and exponents[:-1] == (0,) * (len(exponents) - 1) and quotient == QUOTIENT_ONE
 
 
 def place_in(letters, letter):

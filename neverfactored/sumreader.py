@@ -7,7 +7,7 @@ from neverfactored.quotients import (
 from neverfactored.ratios import ONE, ZERO, make_ratio
 from neverfactored.tokens import tokens_of
 
-SIGNS = ("**", "*", "+", "-", "/", "(", ")")
+DOUBLES = ("**",)
 
 
 def read_sum(text, letters, free, line):
@@ -34,7 +34,7 @@ class SumReader:
     """Goes through a text from the left; what stands farther right is not yet seen."""
 
     def __init__(self, text, line):
-        self.tokens = tokens_of(text, SIGNS)
+        self.tokens = tokens_of(text, DOUBLES)
         self.line = line
         self.at = 0
 

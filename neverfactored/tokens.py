@@ -6,12 +6,12 @@ DIGITS = "0123456789"
 MOST_DIGITS = 300
 
 
-def tokens_of(text, signs):
+def tokens_of(text, doubles):
     """Return the list of couples (kind, piece of the text), one with the kind "end" and an empty piece as the last.
 
-    The other kinds are "number", "word", "sign" and "wrong". A "wrong" piece is a character that is not allowed or
-    digits that are no number: whether it does harm depends on whether a reader comes to it. Signs are told in the
-    order in which they are tried.
+    The other kinds are "number", "word", "sign" and "digits", the last for digits that are no number. Doubles are the
+    signs of two characters; every other character is a sign of its own, also one that no reader knows: nothing is
+    refused before a reader comes to it.
     """
     tokens = []
     place = 0
@@ -19,24 +19,23 @@ def tokens_of(text, signs):
         if text[place] == " ":
             place += 1
         else:
-            kind, piece = token_at(text, place, signs)
+            kind, piece = token_at(text, place, doubles)
             tokens.append((kind, piece))
             place += len(piece)
     tokens.append(("end", ""))
     return tokens
 
 
-def token_at(text, place, signs):
-    """Return the number, word, sign or wrong piece that begins here."""
+def token_at(text, place, doubles):
+    """Return the number, word, sign or digits that begin here."""
     if text[place] in DIGITS:
         number = text[place:end_of_run(text, place, DIGITS)]
-        return ("number" if is_number(number) else "wrong", number)
+        return ("number" if is_number(number) else "digits", number)
     if text[place] in SMALL_LETTERS:
         return ("word", text[place:end_of_run(text, place, SMALL_LETTERS + DIGITS)])
-    for sign in signs:
-        if text[place:place + len(sign)] == sign:
-            return ("sign", sign)
-    return ("wrong", text[place])
+    if text[place:place + 2] in doubles:
+        return ("sign", text[place:place + 2])
+    return ("sign", text[place])
 
 
 def end_of_run(text, place, characters):

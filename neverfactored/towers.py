@@ -73,8 +73,8 @@ def has_point(place, numbers):
 
     If the free letter stands in it, one more number follows, the value of t.
     """
-    many = len(place.letters)
-    free = tuple(numbers[many:many + 1]) if place.has_free else ()
+    # Without the free letter in the equations its value means nothing, if one is told.
+    free = tuple(numbers[len(place.letters):])
     # All values are reckoned before one is looked at, since a pole is told wherever it is.
     values = [element_at(equation, tuple(numbers[:number + 1]) + free)
               for number, equation in enumerate(place.equations)]

@@ -42,7 +42,9 @@ class KindTest(Case):
     def test_is_quotient_of_other_things(self):
         for thing in ODD_THINGS + ([(), POLY_ONE], ((), POLY_ONE, ()), ((), [(1, 1)]), ([], POLY_ONE), (POLY_ONE,),
                                    (((0, 1),), POLY_ONE), (((1, 1), (0, 1)), POLY_ONE), (1, 2), (0, POLY_ONE),
-                                   (((2, 2),), POLY_ONE), (((True, 1),), POLY_ONE), (None, POLY_ONE)):
+                                   (((2, 2),), POLY_ONE), (((True, 1),), POLY_ONE), (None, POLY_ONE),
+                                   (POLY_ONE, ((0, 2), (1, 1))), (POLY_ONE, ((True, 1), (1, 1))),
+                                   (POLY_ONE, [(0, 1), (1, 1)]), (POLY_ONE, (None, (1, 1)))):
             self.assertIs(is_quotient(thing), False, thing)
 
     def test_make_quotient(self):

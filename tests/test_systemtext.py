@@ -68,6 +68,9 @@ class ReadingTest(Case):
         self.assertEqual(read_system("y: y**2 - 2\nx: x - y\nt1: t1 - x*y"),
                          system("y: y**2 - 2", "x: x - y", "t1: t1 - x*y"))
 
+    def test_letters_and_blanks_alone_are_cut_off(self):
+        self.assertEqual(read_system("q: q**2 - 2\nr: r - q\nn: n"), system("q: q**2 - 2", "r: r - q", "n: n"))
+
     def test_like_terms(self):
         self.assertEqual(read_system("x: x*x - 1 - 1"), system("x: x**2 - 2"))
 

@@ -1,0 +1,87 @@
+"""The interface: each name with its arguments, defined in the file under which the document lists it."""
+
+import importlib
+import inspect
+import unittest
+
+FUNCTIONS = {
+    "ratios": ["is_whole(thing, low=None, high=None)", "is_ratio(thing)", "make_ratio(top, bottom=1)",
+               "ratio_plus(one, other)", "ratio_minus(one, other)", "ratio_times(one, other)",
+               "ratio_over(one, other)", "ratio_negative(one)", "ratio_power(one, power)",
+               "ratio_compare(one, other)", "ratio_text(one)"],
+    "polys": ["is_poly(thing)", "make_poly(ratios)", "poly_plus(one, other)", "poly_minus(one, other)",
+              "poly_times(one, other)", "poly_scaled(poly, ratio)", "poly_power(poly, power)", "poly_monic(poly)",
+              "poly_common(one, other)", "poly_slope(poly)", "poly_plain(poly)", "poly_over(one, other)",
+              "poly_at(poly, ratio)", "poly_degree(poly)"],
+    "quotients": ["is_quotient(thing)", "has_t(quotient)", "make_quotient(top, bottom)", "ratio_quotient(ratio)",
+                  "poly_quotient(poly)", "quotient_plus(one, other)", "quotient_minus(one, other)",
+                  "quotient_times(one, other)", "quotient_over(one, other)", "quotient_negative(one)",
+                  "as_ratio(quotient)", "quotient_at(quotient, ratio)"],
+    "element": ["is_letter(thing)", "is_element(thing, many)", "element_has_t(element)", "make_element(rows, many)",
+                "constant_element(quotient, many)", "letter_element(place, many)", "element_plus(one, other)",
+                "element_minus(one, other)", "element_negative(one)", "element_times(one, other)",
+                "element_scaled(element, quotient)", "element_power(element, power, many)",
+                "from_coefficients(coefficients)", "widened(element, many)", "element_set_t(element, number)",
+                "element_degree(element, place)", "coefficients_of(element)", "element_at(element, numbers)"],
+    "elementtext": ["element_text(element, letters)", "poly_text(poly, letter='t')",
+                    "read_element(text, letters, free=True)", "read_poly(text, letter='t')"],
+    "towers": ["has_point(place, numbers)", "tower_set_t(tower, number)"],
+    "reducing": ["reduced(tower, element)", "tower_plus(tower, one, other)", "tower_minus(tower, one, other)",
+                 "tower_times(tower, one, other)", "tower_power(tower, one, power)", "tower_letter(tower, place)",
+                 "tower_constant(tower, quotient)", "is_same(tower, one, other)", "as_quotient(tower, element)",
+                 "told_reduction(tower, element)", "reduction_fault(tower, element, rest, factors)",
+                 "basis_of(tower)", "coordinates_of(tower, element)", "combined_element(tower, coordinates)",
+                 "multiply_table(tower, element)"],
+    "systems": ["system_tower(system)"],
+    "systemtext": ["system_text(system)", "tower_text(tower)", "read_system(text)"],
+    "uppers": ["trim_upper(tower, upper)", "upper_times(tower, one, other)", "upper_over(tower, one, other)",
+               "upper_slope(tower, upper)"],
+}
+CLASSES = {
+    ("towers", "Tower"): ["__init__(self, letters, equations)", "over(self, k)", "place_of(self, letter)",
+                          "with_equation(self, letter, equation)", "__eq__(self, other)"],
+    ("reducing", "Reduction"): ["__init__(self, rest, factors)", "__eq__(self, other)"],
+    ("systems", "System"): ["__init__(self, letters, equations, free=False, *, special=False)",
+                            "place_of(self, letter)", "at_free(self, number)", "special(self, poly)",
+                            "__eq__(self, other)"],
+    ("notes", "Notes"): ["__init__(self)", "take(self, poly)"],
+}
+PROPERTIES = {("towers", "Tower"): "has_free", ("systems", "System"): "has_free", ("notes", "Notes"): "joined"}
+
+
+def module(name):
+    """Return a module of the package."""
+    return importlib.import_module("neverfactored." + name)
+
+
+class InterfaceTest(unittest.TestCase):
+
+    def check(self, thing, told, home):
+        """Check the arguments of a function, and that it is defined in this module."""
+        self.assertEqual(thing.__name__ + str(inspect.signature(thing)), told)
+        self.assertEqual(thing.__module__, home.__name__)
+
+    def test_functions(self):
+        for name, functions in FUNCTIONS.items():
+            for told in functions:
+                self.check(getattr(module(name), told.split("(")[0]), told, module(name))
+
+    def test_classes(self):
+        for (name, kind), methods in CLASSES.items():
+            self.assertEqual(getattr(module(name), kind).__module__, "neverfactored." + name)
+            for told in methods:
+                self.check(vars(getattr(module(name), kind))[told.split("(")[0]], told, module(name))
+
+    def test_properties(self):
+        for (name, kind), told in PROPERTIES.items():
+            self.assertIsInstance(vars(getattr(module(name), kind))[told], property)
+
+    def test_constants(self):
+        self.assertEqual(module("ratios").ZERO, (0, 1))
+        self.assertEqual(module("ratios").ONE, (1, 1))
+        self.assertEqual(module("quotients").QUOTIENT_ZERO, ((), ((1, 1),)))
+        self.assertEqual(module("quotients").QUOTIENT_ONE, (((1, 1),), ((1, 1),)))
+
+
+if __name__ == "__main__":
+    unittest.main()
