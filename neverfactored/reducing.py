@@ -151,6 +151,21 @@ def combined_element(tower, coordinates):
 
 def multiply_table(tower, element):
     """Return the rows of coordinates of the element times each product of letters of the basis."""
-    rest = reduced(tower, element)
-    products = [element_times(rest, ((exponents, QUOTIENT_ONE),)) for exponents in basis_of(tower)]
-    return tuple([coordinates_of(tower, product) for product in products])
+    products = {}
+    for exponents in basis_of(tower):
+        # A product of the basis is an earlier one times one letter, and that is soon reduced.
+        place = first_place(exponents)
+        if place is None:
+            products[exponents] = reduced(tower, element)
+        else:
+            earlier = exponents[:place] + (exponents[place] - 1,) + exponents[place + 1:]
+            products[exponents] = tower_times(tower, products[earlier], letter_element(place, len(exponents)))
+    return tuple([coordinates_of(tower, product) for product in products.values()])
+
+
+def first_place(exponents):
+    """Return the first place where the exponent is not 0, None if there is none."""
+    for place, power in enumerate(exponents):
+        if power > 0:
+            return place
+    return None
