@@ -4,7 +4,7 @@ from neverfactored.errors import DividedByNought
 from neverfactored.powers import power_by
 from neverfactored.ratios import (
     ONE, ZERO, is_ratio, lowest_terms, ratio_minus, ratio_negative, ratio_over, ratio_plus, ratio_times)
-from neverfactored.wholepolys import cleared, surely_coprime, whole_common, whole_times, without_factor
+from neverfactored.wholepolys import cleared, whole_common, whole_over, whole_times, without_factor
 
 POLY_ONE = ((1, 1),)
 
@@ -103,11 +103,18 @@ def poly_common(one, other):
         return poly_monic(one or other)
     if len(one) == 1 or len(other) == 1:
         return POLY_ONE
-    left = without_factor(cleared(one)[0])
-    right = without_factor(cleared(other)[0])
-    if surely_coprime(left, right):
-        return POLY_ONE
-    return poly_monic(tuple([(number, 1) for number in whole_common(left, right)]))
+    found = whole_common(without_factor(cleared(one)[0]), without_factor(cleared(other)[0]))
+    return POLY_ONE if len(found) == 1 else poly_monic(tuple([(number, 1) for number in found]))
+
+
+def poly_part(poly, divisor):
+    """Return the poly divided by a monic poly that divides it."""
+    if divisor == POLY_ONE:
+        return poly
+    numbers, bottom = cleared(poly)
+    # Cleared, a monic poly has no common factor, so the quotient needs no bottoms of its own.
+    others, under = cleared(divisor)
+    return tuple([lowest_terms(number * under, bottom) for number in whole_over(numbers, others)])
 
 
 def poly_slope(poly):
@@ -117,7 +124,9 @@ def poly_slope(poly):
 
 def poly_plain(poly):
     """Return the monic poly that has the same roots, each once; DividedByNought for ()."""
-    return poly_over(poly_monic(poly), poly_common(poly, poly_slope(poly)))[0]
+    if poly == ():
+        raise DividedByNought()
+    return poly_part(poly_monic(poly), poly_common(poly, poly_slope(poly)))
 
 
 def poly_at(poly, ratio):

@@ -2,7 +2,7 @@
 
 from neverfactored.errors import DividedByNought, Pole
 from neverfactored.polys import (
-    POLY_ONE, is_poly, poly_at, poly_common, poly_monic, poly_negative, poly_over, poly_plus, poly_scaled, poly_times)
+    POLY_ONE, is_poly, poly_at, poly_common, poly_monic, poly_negative, poly_part, poly_plus, poly_scaled, poly_times)
 from neverfactored.ratios import ONE, ZERO, ratio_over
 
 QUOTIENT_ZERO = ((), ((1, 1),))
@@ -25,11 +25,6 @@ def make_quotient(top, bottom):
         raise DividedByNought()
     shared = poly_common(top, bottom)
     return over_monic(poly_part(top, shared), poly_part(bottom, shared))
-
-
-def poly_part(poly, divisor):
-    """Return the poly divided by a monic poly that divides it."""
-    return poly if divisor == POLY_ONE else poly_over(poly, divisor)[0]
 
 
 def over_monic(top, bottom):

@@ -151,21 +151,33 @@ def combined_element(tower, coordinates):
 
 def multiply_table(tower, element):
     """Return the rows of coordinates of the element times each product of letters of the basis."""
-    products = {}
-    for exponents in basis_of(tower):
-        # A product of the basis is an earlier one times one letter, and that is soon reduced.
-        place = first_place(exponents)
-        if place is None:
-            products[exponents] = reduced(tower, element)
-        else:
-            earlier = exponents[:place] + (exponents[place] - 1,) + exponents[place + 1:]
-            products[exponents] = tower_times(tower, products[earlier], letter_element(place, len(exponents)))
-    return tuple([coordinates_of(tower, product) for product in products.values()])
+    return tuple([tuple(row) for row in table_of(tower.equations, reduced(tower, element))])
 
 
-def first_place(exponents):
-    """Return the first place where the exponent is not 0, None if there is none."""
-    for place, power in enumerate(exponents):
-        if power > 0:
-            return place
-    return None
+def table_of(equations, element):
+    """Return the rows of the table of an element that is reduced by the equations, lists of quotients.
+
+    Times a power of the last letter the element is a row of coefficients; each of them has a table of its own.
+    """
+    if not equations:
+        return [[element[0][1] if element else QUOTIENT_ZERO]]
+    ahead = equations[:-1]
+    own = coefficients_of(equations[-1])[:-1]
+    rows = [list(coefficients_of(element))]
+    rows[0].extend([() for _ in range(len(own) - len(rows[0]))])
+    for _ in own[1:]:
+        rows.append(times_letter(ahead, own, rows[-1]))
+    table = []
+    for row in rows:
+        blocks = [table_of(ahead, entry) for entry in row]
+        table.extend([[quotient for block in blocks for quotient in block[place]] for place in range(len(blocks[0]))])
+    return table
+
+
+def times_letter(ahead, own, row):
+    """Return the coefficients times their letter, whose equation has its own coefficients below its first one."""
+    shifted = [()] + row[:-1]
+    if row[-1]:
+        subtract_shifted(shifted, 0, row[-1], own)
+        return [divided(ahead, entry)[0] for entry in shifted]
+    return shifted

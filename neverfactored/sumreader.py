@@ -5,7 +5,7 @@ from neverfactored.errors import BadText
 from neverfactored.quotients import (
     QUOTIENT_ONE, make_quotient, poly_quotient, quotient_negative, quotient_times, ratio_quotient)
 from neverfactored.ratios import ONE, ZERO, make_ratio
-from neverfactored.tokens import tokens_of
+from neverfactored.tokens import TokenReader
 
 DOUBLES = ("**",)
 
@@ -30,30 +30,16 @@ class Scope:
         self.brackets = brackets
 
 
-class SumReader:
-    """Goes through a text from the left; what stands farther right is not yet seen."""
+class SumReader(TokenReader):
+    """Reads a sum; the line is told with an error."""
 
     def __init__(self, text, line):
-        self.tokens = tokens_of(text, DOUBLES)
+        super().__init__(text, DOUBLES)
         self.line = line
-        self.at = 0
-
-    def passes(self, sign):
-        """Return whether the sign stands here, and go behind it if so."""
-        if self.tokens[self.at][1] != sign:
-            return False
-        self.at += 1
-        return True
-
-    def next_piece(self):
-        """Go behind the number, word or sign that stands here and return it."""
-        piece = self.tokens[self.at][1]
-        self.at += 1
-        return piece
 
     def end_or(self, what):
         """Return the word for something wrong here: the end of the text has its own."""
-        return "end" if self.tokens[self.at][0] == "end" else what
+        return "end" if self.is_at_end() else what
 
     def pass_sign(self, sign):
         """Go behind the one sign that can stand here."""
@@ -62,13 +48,13 @@ class SumReader:
 
     def pass_end(self):
         """Refuse whatever stands here but the end."""
-        if self.tokens[self.at][0] != "end":
+        if not self.is_at_end():
             raise BadText(self.line, "sign")
 
     def read_terms(self, scope):
         """Read a sum and return its element over the letters of the scope."""
         rows = [self.read_term(scope, self.passes("-"))]
-        while self.tokens[self.at][1] in ("+", "-"):
+        while self.token()[1] in ("+", "-"):
             below = self.next_piece() == "-"
             rows.append(self.read_term(scope, below))
         return make_element(rows, len(scope.letters))
@@ -84,7 +70,7 @@ class SumReader:
 
     def read_factor(self, scope):
         """Read a factor and return its exponents and its quotient."""
-        kind, piece = self.tokens[self.at]
+        kind, piece = self.token()
         if kind == "word":
             return self.read_letter(scope)
         noughts = (0,) * len(scope.letters)
@@ -100,13 +86,13 @@ class SumReader:
         if not self.passes("/"):
             return make_ratio(top)
         self.refuse_nought()
-        if self.tokens[self.at][0] != "number":
+        if self.token()[0] != "number":
             raise BadText(self.line, self.end_or("sign"))
         return make_ratio(top, int(self.next_piece()))
 
     def refuse_nought(self):
         """Refuse a 0 behind a "/"."""
-        if self.tokens[self.at][1] == "0":
+        if self.token()[1] == "0":
             raise BadText(self.line, "bottom")
 
     def read_letter(self, scope):
@@ -124,7 +110,7 @@ class SumReader:
         """Read the power behind a letter; it is 1 if none stands there."""
         if not self.passes("**"):
             return 1
-        kind, piece = self.tokens[self.at]
+        kind, piece = self.token()
         if kind != "number" or len(piece) > 2:
             raise BadText(self.line, self.end_or("power"))
         return int(self.next_piece())

@@ -6,6 +6,35 @@ DIGITS = "0123456789"
 MOST_DIGITS = 300
 
 
+class TokenReader:
+    """Goes through a text from the left; what stands farther right is not yet seen."""
+
+    def __init__(self, text, doubles):
+        self.tokens = tokens_of(text, doubles)
+        self.at = 0
+
+    def token(self):
+        """Return the couple (kind, piece) that stands here."""
+        return self.tokens[self.at]
+
+    def is_at_end(self):
+        """Return whether nothing more stands here."""
+        return self.tokens[self.at][0] == "end"
+
+    def passes(self, piece):
+        """Return whether this number, word or sign stands here, and go behind it if so."""
+        if self.tokens[self.at][1] != piece:
+            return False
+        self.at += 1
+        return True
+
+    def next_piece(self):
+        """Go behind the number, word or sign that stands here and return it."""
+        piece = self.tokens[self.at][1]
+        self.at += 1
+        return piece
+
+
 def tokens_of(text, doubles):
     """Return the list of couples (kind, piece of the text), one with the kind "end" and an empty piece as the last.
 

@@ -1,6 +1,6 @@
 """Upper polys: polynomials in one letter more, tuples of elements over the letters of a tower."""
 
-from neverfactored.element import element_plus, element_scaled, element_times
+from neverfactored.element import element_minus, element_plus, element_scaled, element_times
 from neverfactored.errors import NotMonic
 from neverfactored.quotients import QUOTIENT_ONE, ratio_quotient
 from neverfactored.reducing import reduced, subtract_shifted, tower_constant
@@ -12,6 +12,17 @@ def trim_upper(tower, upper):
     while rows and rows[-1] == ():
         rows.pop()
     return tuple(rows)
+
+
+def upper_minus(tower, one, other):
+    """Return the difference."""
+    powers = range(max(len(one), len(other)))
+    return trim_upper(tower, [element_minus(entry_at(one, power), entry_at(other, power)) for power in powers])
+
+
+def entry_at(upper, power):
+    """Return the coefficient of a power, also of one above the degree."""
+    return upper[power] if power < len(upper) else ()
 
 
 def upper_times(tower, one, other):

@@ -3,13 +3,18 @@
 import random
 import unittest
 
-from neverfactored.element import make_element
+from neverfactored.element import (
+    coefficients_of, element_at, element_minus, element_set_t, element_times, from_coefficients, letter_element,
+    make_element, widened)
 from neverfactored.elementtext import read_element, read_poly
-from neverfactored.polys import make_poly
+from neverfactored.notes import Notes
+from neverfactored.polys import make_poly, poly_at, poly_over, poly_plain
 from neverfactored.quotients import make_quotient, ratio_quotient
 from neverfactored.ratios import make_ratio
+from neverfactored.reducing import reduced, tower_plus
 from neverfactored.systems import System
-from neverfactored.towers import Tower
+from neverfactored.towers import Tower, has_point
+from neverfactored.uppers import trim_upper
 
 # Things of many kinds that are none of what the package passes about.
 ODD_THINGS = (None, True, False, 0, 1, -1, 1.0, 0.5, "", "x", "xy", b"x", [], (), {}, set(), object(), int, len,
@@ -39,6 +44,18 @@ class Case(unittest.TestCase):
         """Check that two values of nested tuples are equal, and that no bool stands for a number."""
         self.assertEqual(found, told)
         self.assertTrue(all_whole(found), found)
+
+    def are_parts(self, points, parts):
+        """Check that plain towers share out the points of a tower, all of them ratios."""
+        shared = [point for part in parts for point in self.whole_points(part, points)]
+        self.assertEqual(sorted(shared), sorted(points))
+
+    def whole_points(self, part, points):
+        """Return the points of a part; check that it has as many of the points as its count, so no others."""
+        self.assertIsInstance(part, Tower)
+        found = points_in(part, points)
+        self.assertEqual(len(found), part.count)
+        return found
 
 
 def q(text):
@@ -113,6 +130,103 @@ def some_tower(dice, degrees, with_t=False):
         rows.append(((0,) * place + (degree,), (((1, 1),), ((1, 1),))))
         found = found.with_equation("xyzu"[place], make_element(rows, many))
     return found
+
+
+def points_of(roots, number=(0, 1)):
+    """Return the points of a split tower, told by its roots, where t is the number."""
+    points = [()]
+    for row in roots:
+        points = [point + (element_at(root, point + (number,)),) for point in points for root in row]
+    return points
+
+
+def some_root(dice, many, with_t):
+    """Return a small element by dice over so many letters."""
+    rows = [(tuple(dice.randint(0, 1) for _ in range(many)),
+             make_quotient(make_poly([(dice.randint(-2, 2), 1) for _ in range(3 if with_t else 1)]), ((1, 1),)))
+            for _ in range(dice.randint(1, 2))]
+    return make_element(rows, many)
+
+
+def split_equation(roots, many):
+    """Return the product of the last of so many letters less each root."""
+    product = make_element([((0,) * many, (((1, 1),), ((1, 1),)))], many)
+    for root in roots:
+        product = element_times(product, element_minus(letter_element(many - 1, many), widened(root, many)))
+    return product
+
+
+def split_tower(dice, degrees, with_t=False):
+    """Return (tower, roots): a plain tower by dice, each of its equations a product of letters less roots."""
+    while True:
+        found = Tower((), ())
+        roots = []
+        for place, degree in enumerate(degrees):
+            roots.append([some_root(dice, place, with_t) for _ in range(degree)])
+            rows = coefficients_of(split_equation(roots[-1], place + 1))
+            found = found.with_equation("xyzu"[place], from_coefficients([reduced(found, row) for row in rows]))
+        if are_unlike(points_of(roots, (17, 5))):
+            return found, roots
+
+
+def are_unlike(points):
+    """Return whether no point stands twice."""
+    return len(set(points)) == len(points)
+
+
+def points_in(part, points):
+    """Return those of the points that a tower has."""
+    return [point for point in points if has_point(part, point)]
+
+
+def upper_at(upper, point):
+    """Return the poly that an upper poly is at a point."""
+    return make_poly([element_at(element, point) for element in upper])
+
+
+def upper_set_t(upper, number):
+    """Return an upper poly with t set to a ratio."""
+    return tuple(element_set_t(element, number) for element in upper)
+
+
+# Ratios at which what was reckoned with t is looked at.
+SAMPLES = tuple(make_ratio(top, bottom) for bottom in (1, 2) for top in range(-4, 5))
+
+
+def good_samples(notes, *roots):
+    """Return the samples that are no root of what the notes joined, and at which each split tower is plain."""
+    return [number for number in SAMPLES if poly_at(notes.joined, number) != (0, 1)
+            and all(are_unlike(points_of(row, number)) for row in roots)]
+
+
+def is_noted(notes, poly):
+    """Return whether each root of a poly is one of what the notes joined."""
+    return poly_over(notes.joined, poly_plain(poly))[1] == ()
+
+
+def with_root(dice, letters, roots):
+    """Return an element that is 0 where the last of the letters is one of its roots, times one by dice."""
+    many = len(letters)
+    less = element_minus(letter_element(many - 1, many), widened(dice.choice(roots[-1]), many))
+    return element_times(some_element(dice, many, terms=2, power=1, with_t=False), less)
+
+
+def upper_plus(one, left, right):
+    """Return the trimmed sum of two upper polys, reckoned by its entries."""
+    size = max(len(left), len(right))
+    left, right = tuple(left) + ((),) * (size - len(left)), tuple(right) + ((),) * (size - len(right))
+    return trim_upper(one, [tower_plus(one, first, second) for first, second in zip(left, right)])
+
+
+def u(*texts, letters="x"):
+    """Return the upper poly with these coefficients, powers ascending."""
+    return tuple(e(text, letters) for text in texts)
+
+
+def noted(call, *args):
+    """Return the result of a call to which notes are passed, and the notes."""
+    notes = Notes()
+    return call(*args, notes), notes
 
 
 def dice_of(seed):

@@ -6,8 +6,7 @@ from fractions import Fraction
 from neverfactored.errors import DividedByNought
 from neverfactored.polys import (
     is_poly, make_poly, poly_at, poly_common, poly_degree, poly_minus, poly_monic, poly_over, poly_plain, poly_plus,
-    poly_power, poly_scaled, poly_slope, poly_times)
-from neverfactored.wholepolys import PRIME
+    poly_part, poly_power, poly_scaled, poly_slope, poly_times)
 from tests.support import ODD_THINGS, Case, dice_of, p, some_poly, some_ratio
 
 POLY_ONE = ((1, 1),)
@@ -170,11 +169,21 @@ class CommonTest(Case):
                 self.assertEqual(poly_over(other, rest)[1], ())
                 self.assertEqual(found, poly_common(poly_times(other, both), poly_times(one, both)))
 
-    def test_where_the_prime_decides_nothing(self):
-        self.same(poly_common(p("t"), ((PRIME, 1), (1, 1))), POLY_ONE)
-        both = ((1, 1), (PRIME, 1))
-        self.same(poly_common(poly_times(both, p("t + 1")), poly_times(both, p("t + 2"))), ((1, PRIME), (1, 1)))
-        self.same(poly_common(((1, 1), (PRIME, 1)), ((2, 1), (PRIME, 1))), POLY_ONE)
+    def test_numbers_that_hide_a_divisor(self):
+        for great in (2 ** 61 - 1, 2 ** 24, 2 ** 200, 3 * 2 ** 90):
+            self.same(poly_common(p("t"), ((great, 1), (1, 1))), POLY_ONE)
+            both = ((1, 1), (great, 1))
+            self.same(poly_common(poly_times(both, p("t + 1")), poly_times(both, p("t + 2"))), ((1, great), (1, 1)))
+            self.same(poly_common(((1, 1), (great, 1)), ((2, 1), (great, 1))), POLY_ONE)
+
+    def test_part(self):
+        self.same(poly_part(p("1/2*t**2 - 1/2"), p("t + 1")), p("1/2*t - 1/2"))
+        self.same(poly_part(p("3*t"), POLY_ONE), p("3*t"))
+        self.same(poly_part((), p("t + 1/3")), ())
+        dice = dice_of(617)
+        for _ in range(40):
+            one, other = some_poly(dice, 9), poly_monic(some_poly(dice, 9)) or POLY_ONE
+            self.same(poly_part(poly_times(one, other), other), one)
 
     def test_great_numbers(self):
         both = ((10 ** 60 + 7, 3), (7, 10 ** 40), (1, 1))

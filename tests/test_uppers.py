@@ -3,29 +3,17 @@
 import unittest
 
 from neverfactored.errors import NotMonic
-from neverfactored.reducing import reduced, tower_plus, tower_times
+from neverfactored.reducing import reduced, tower_times
 from neverfactored.uppers import trim_upper, upper_over, upper_slope, upper_times
-from tests.support import Case, dice_of, e, some_element, some_tower, tower
+from tests.support import Case, dice_of, e, some_element, some_tower, tower, u, upper_plus
 
 ONE = tower("x: x**2 - 2")
 EMPTY = tower()
 
 
-def u(*texts, letters="x"):
-    """Return the upper poly with these coefficients, powers ascending."""
-    return tuple(e(text, letters) for text in texts)
-
-
 def some_upper(dice, many, size=4):
     """Return an upper poly by dice, neither reduced nor trimmed."""
     return [some_element(dice, many, terms=3) for _ in range(dice.randint(0, size))]
-
-
-def upper_plus(one, left, right):
-    """Return the trimmed sum, reckoned by its entries."""
-    size = max(len(left), len(right))
-    left, right = tuple(left) + ((),) * (size - len(left)), tuple(right) + ((),) * (size - len(right))
-    return trim_upper(one, [tower_plus(one, first, second) for first, second in zip(left, right)])
 
 
 class TrimTest(Case):
