@@ -156,3 +156,15 @@ class BadLot(RootError):
 
 class NoFree(RootError):
     """The system has no free letter."""
+
+
+class Parted(RootError):
+    """An element is 0 at some points and not at others, so what asked for it must be done for each part alone.
+
+    This one is for the runs within the package alone; none of the functions that are promised raises it.
+    """
+
+    def __init__(self, element, zeros, others):
+        self.element = element
+        self.zeros = zeros
+        self.others = others

@@ -7,8 +7,11 @@ from neverfactored.element import (
     coefficients_of, element_at, element_minus, element_set_t, element_times, from_coefficients, letter_element,
     make_element, widened)
 from neverfactored.elementtext import read_element, read_poly
+from neverfactored.errors import BadProgram, BadSystem, TooMany
 from neverfactored.notes import Notes
 from neverfactored.polys import make_poly, poly_at, poly_over, poly_plain
+from neverfactored.programs import Program
+from neverfactored.programtext import read_program
 from neverfactored.quotients import make_quotient, ratio_quotient
 from neverfactored.ratios import make_ratio
 from neverfactored.reducing import reduced, tower_plus
@@ -227,6 +230,78 @@ def noted(call, *args):
     """Return the result of a call to which notes are passed, and the notes."""
     notes = Notes()
     return call(*args, notes), notes
+
+
+def split_system(dice, degrees, with_t=False):
+    """Return (system, roots): a system by dice whose equations are products of letters less roots, some of them double."""
+    while True:
+        roots = []
+        for place, degree in enumerate(degrees):
+            roots.append([some_root(dice, place, with_t) for _ in range(degree)])
+            if dice.random() < 0.3:
+                roots[-1][0] = roots[-1][-1]
+        equations = [split_equation(row, place + 1) for place, row in enumerate(roots)]
+        try:
+            return System(("x", "y", "z")[:len(degrees)], equations, with_t), roots
+        except (BadSystem, TooMany):
+            pass
+
+
+def program(*lines):
+    """Return the program of these lines."""
+    return read_program("\n".join(lines))
+
+
+def some_expression(dice, letters, names, height):
+    """Return an expression by dice over letters and names."""
+    kind = dice.random()
+    if height == 1 or kind < 0.25:
+        if kind < 0.08 or not letters:
+            return ("number", dice.randint(0, 3))
+        return ("name", dice.choice(names)) if names and kind < 0.15 else ("letter", dice.choice(letters))
+    if kind < 0.35:
+        return ("negative", some_expression(dice, letters, names, height - 1))
+    if kind < 0.45:
+        return ("power", some_expression(dice, letters, names, height - 1), dice.randint(0, 3))
+    return (dice.choice(("plus", "minus", "times", "over", "plus", "minus")),
+            some_expression(dice, letters, names, height - 1), some_expression(dice, letters, names, height - 1))
+
+
+def some_block(dice, letters, names, depth):
+    """Return lines by dice, blocks within blocks so deep."""
+    names = list(names)
+    lines = []
+    for _ in range(dice.randint(1, 3)):
+        kind = dice.random()
+        if kind < 0.4 or (depth == 0 and kind < 0.8):
+            lines.append(("let", dice.choice(("aa", "bb")), some_expression(dice, letters, names, 3)))
+            names.append(lines[-1][1])
+        elif kind < 0.65 and depth > 0:
+            tests = tuple((dice.choice(("=", "!=")), some_expression(dice, letters, names, 2),
+                           some_expression(dice, letters, names, 2)) for _ in range(dice.randint(1, 3)))
+            lines.append(("if", tests, tuple(dice.choice(("and", "or")) for _ in tests[1:])))
+            lines.extend(some_block(dice, letters, names, depth - 1))
+            if dice.random() < 0.6:
+                lines.append(("else",))
+                lines.extend(some_block(dice, letters, names, depth - 1))
+            lines.append(("end",))
+        elif kind < 0.8 and depth > 0:
+            lines.extend([("for", dice.randint(0, 3)), *some_block(dice, letters, names, depth - 1), ("end",)])
+        else:
+            many = dice.randint(0, 2)
+            values = tuple(some_expression(dice, letters, names, 2) for _ in range(many))
+            lines.append(("stop", "mnp"[many], values))
+            break
+    return lines
+
+
+def some_program(dice, letters, depth=2):
+    """Return a program by dice over the letters."""
+    while True:
+        try:
+            return Program(some_block(dice, letters, [], depth))
+        except BadProgram:
+            pass
 
 
 def dice_of(seed):

@@ -36,6 +36,25 @@ FUNCTIONS = {
     "systemtext": ["system_text(system)", "tower_text(tower)", "read_system(text)"],
     "uppers": ["trim_upper(tower, upper)", "upper_times(tower, one, other)", "upper_over(tower, one, other)",
                "upper_slope(tower, upper)"],
+    "divisors": ["common_divisors(tower, one, other, notes=None)", "zero_parts(tower, element, notes=None)",
+                 "how_nought(tower, element)"],
+    "plaintowers": ["is_plain(tower)", "doubled_letter(tower)", "plain_uppers(tower, upper, notes=None)",
+                    "plain_towers(system, notes=None)"],
+    "parting": ["carry_tower(tower, part)", "meet_towers(one, other, notes=None)", "parts_fault(tower, parts)",
+                "zero_fault(tower, element, zeros, others)"],
+    "inverses": ["inverses(tower, element, notes=None)", "divisions(tower, top, bottom, notes=None)",
+                 "inverses_fault(tower, element, zeros, found)", "divided_fault(tower, one, other, found)"],
+    "ways": ["partner_lines(lines)", "names_known(lines)", "depth_of(lines)"],
+    "programs": ["is_name(thing)", "is_mark(thing)"],
+    "programtext": ["read_program(text)", "program_text(program)", "expression_text(expression)"],
+    "plainruns": ["run_at(program, letters, numbers)", "lines_walked(program, letters, numbers)"],
+    "machine": ["run_once(program, tower, notes=None, free=False)", "run_system(program, system, notes=None)"],
+    "partings": ["partings_of(program, tower)"],
+    "outcomes": ["outcome_at(lots, numbers)", "lots_by_answers(lots)", "lots_at(lots, number)",
+                 "lots_fault(program, tower, lots)"],
+    "answerrows": ["answer_rows(program, system)"],
+    "refining": ["apart_towers(towers, notes=None)", "less_towers(towers, others, notes=None)",
+                 "refine_towers(towers, notes=None)", "counted_beginnings(towers, notes=None)"],
 }
 CLASSES = {
     ("towers", "Tower"): ["__init__(self, letters, equations)", "over(self, k)", "place_of(self, letter)",
@@ -45,6 +64,11 @@ CLASSES = {
                             "place_of(self, letter)", "at_free(self, number)", "special(self, poly)",
                             "__eq__(self, other)"],
     ("notes", "Notes"): ["__init__(self)", "take(self, poly)"],
+    ("divisors", "Divided"): ["__init__(self, tower, divisor, left, right)", "__eq__(self, other)"],
+    ("programs", "Program"): ["__init__(self, lines)", "__len__(self)", "__iter__(self)", "__eq__(self, other)"],
+    ("plainruns", "Outcome"): ["__init__(self, mark, outputs, answers, walked)", "__eq__(self, other)"],
+    ("machine", "Lot"): ["__init__(self, tower, mark, outputs, answers, walked)", "__eq__(self, other)"],
+    ("partings", "Parting"): ["__init__(self, line, element, tower, zeros, others)", "__eq__(self, other)"],
 }
 PROPERTIES = {("towers", "Tower"): "has_free", ("systems", "System"): "has_free", ("notes", "Notes"): "joined"}
 

@@ -9,7 +9,7 @@ PACKAGE = pathlib.Path(__file__).resolve().parent.parent / "neverfactored"
 FILES = sorted(PACKAGE.glob("**/*.py"))
 LIBRARY = {"math": {"gcd", "lcm", "isqrt", "comb", "perm", "factorial"}}
 BUILTINS = set("""len range enumerate zip min max sum abs sorted reversed int str bool list tuple dict set isinstance
-    ord repr any all divmod ValueError TypeError KeyError NotImplemented property""".split())
+    ord repr any all divmod iter super ValueError TypeError KeyError NotImplemented property""".split())
 METHODS = set("""append clear copy count endswith extend find get index insert isalnum isalpha isdigit islower isspace
     isupper items join keys ljust lower lstrip partition pop remove replace reverse rfind rjust rpartition rsplit rstrip
     setdefault split splitlines startswith strip update upper values zfill bit_length __init__""".split())
@@ -41,7 +41,7 @@ def imports_of(tree):
 
 
 def local_names(tree):
-    """Return the names of the parameters and local variables of all functions of a file."""
+    """Return the names of the parameters, local variables and caught errors of all functions of a file."""
     names = set()
     for function in ast.walk(tree):
         if isinstance(function, (ast.FunctionDef, ast.Lambda)):
@@ -50,7 +50,20 @@ def local_names(tree):
                     names.add(node.arg)
                 if isinstance(node, ast.Name) and isinstance(node.ctx, ast.Store):
                     names.add(node.id)
+                if isinstance(node, ast.ExceptHandler) and node.name is not None:
+                    names.add(node.name)
     return names
+
+
+def own_errors():
+    """Return the names of the errors of the package."""
+    return own_names(dict(trees())["errors"])
+
+
+def stars_of(tree):
+    """Return what stands behind the stars of calls."""
+    return [argument.value for node in ast.walk(tree) if isinstance(node, ast.Call)
+            for argument in node.args if isinstance(argument, ast.Starred)]
 
 
 class LanguageTest(unittest.TestCase):
@@ -120,8 +133,8 @@ class LanguageTest(unittest.TestCase):
                     self.assertIn(node.func.attr, METHODS | own, name)
 
     def test_expressions(self):
-        barred = (ast.GeneratorExp, ast.Div, ast.MatMult, ast.Global, ast.AsyncFunctionDef, ast.Await, ast.Pow,
-                  ast.AugStore if hasattr(ast, "AugStore") else ast.Global, ast.Try, ast.With, ast.AnnAssign)
+        barred = (ast.GeneratorExp, ast.Div, ast.MatMult, ast.Global, ast.AsyncFunctionDef, ast.Await, ast.With,
+                  ast.AnnAssign, ast.NamedExpr, ast.Match)
         for name, tree in trees():
             for node in ast.walk(tree):
                 self.assertNotIsInstance(node, barred, (name, getattr(node, "lineno", None)))
@@ -130,6 +143,45 @@ class LanguageTest(unittest.TestCase):
                 if isinstance(node, ast.Constant):
                     self.assertNotIsInstance(node.value, (float, complex), name)
                     self.assertFalse(isinstance(node.value, str) and "%" in node.value, name)
+
+    def test_powers_have_literal_exponents(self):
+        for name, tree in trees():
+            for node in ast.walk(tree):
+                if isinstance(node, ast.BinOp) and isinstance(node.op, ast.Pow):
+                    self.assertIsInstance(node.right, ast.Constant, name)
+                    self.assertTrue(0 <= node.right.value <= 64, name)
+
+    def test_only_own_errors_are_caught(self):
+        errors = own_errors()
+        for name, tree in trees():
+            for node in ast.walk(tree):
+                if isinstance(node, ast.ExceptHandler):
+                    self.assertIn(node.type.id, errors, name)
+                if isinstance(node, ast.Raise):
+                    self.assertIn(node.exc.func.id, errors, name)
+                if isinstance(node, ast.Try):
+                    self.assertEqual(node.finalbody, [], name)
+
+    def test_stars_stand_ahead_of_names(self):
+        for name, tree in trees():
+            for value in stars_of(tree):
+                self.assertIsInstance(value, (ast.Name, ast.Attribute), name)
+
+    def test_attributes_are_assigned_through_a_name(self):
+        for name, tree in trees():
+            for node in ast.walk(tree):
+                if isinstance(node, ast.Attribute) and isinstance(node.ctx, ast.Store):
+                    self.assertIsInstance(node.value, ast.Name, (name, node.lineno))
+
+    def test_sets_stand_where_they_may(self):
+        for name, tree in trees():
+            allowed = [argument for node in ast.walk(tree) if isinstance(node, ast.Call)
+                       and isinstance(node.func, ast.Name) and node.func.id in ("sorted", "len")
+                       for argument in node.args]
+            for node in ast.walk(tree):
+                is_set = isinstance(node, (ast.Set, ast.SetComp)) or (
+                    isinstance(node, ast.Call) and isinstance(node.func, ast.Name) and node.func.id == "set")
+                self.assertTrue(not is_set or node in allowed, (name, getattr(node, "lineno", None)))
 
 
 if __name__ == "__main__":
