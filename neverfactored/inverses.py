@@ -29,7 +29,7 @@ def divisions(tower, top, bottom, notes=None):
 
 def inverses_fault(tower, element, zeros, found):
     """Return None if zeros and found are right inverses of the element, else the first word that applies."""
-    what = parts_fault(tower, [*zeros, *[part for part, _ in found]])
+    what = parts_fault(tower, list(zeros) + [part for part, _ in found])
     if what is not None:
         return what
     if not all([is_zero_at(part, element) for part in zeros]):

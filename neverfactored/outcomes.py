@@ -9,14 +9,14 @@ from neverfactored.towers import has_point, tower_set_t
 from neverfactored.walking import refuse_letters
 
 
-def has_free(lot):
+def lot_has_free(lot):
     """Return whether the free letter stands in an equation or a value of a lot."""
     return lot.tower.has_free or any([element_has_t(output) for output in lot.outputs])
 
 
 def outcome_at(lots, numbers):
     """Return the outcome at a point whose numbers are ratios."""
-    if any([has_free(lot) for lot in lots]):
+    if any([lot_has_free(lot) for lot in lots]):
         raise HasFree()
     for lot in lots:
         if has_point(lot.tower, numbers):
