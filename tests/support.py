@@ -233,7 +233,7 @@ def noted(call, *args):
 
 
 def split_system(dice, degrees, with_t=False):
-    """Return (system, roots): a system by dice whose equations are products of letters less roots, some of them double."""
+    """Return (system, roots): by dice, its equations products of letters less roots, some of them double."""
     while True:
         roots = []
         for place, degree in enumerate(degrees):

@@ -46,7 +46,8 @@ class AnswerRowsTest(Case):
 
     def test_a_special_system(self):
         told = program("if t = 1", "stop m", "end")
-        self.rows(answer_rows(told, system("t: t**3 - t", "x: x**2 - t", special=True)), ((NO, "end", 3), (YES, "m", 2)))
+        self.rows(answer_rows(told, system("t: t**3 - t", "x: x**2 - t", special=True)),
+                  ((NO, "end", 3), (YES, "m", 2)))
 
     def test_by_dice(self):
         dice = dice_of(383)

@@ -199,8 +199,10 @@ class DividedFaultTest(Case):
 
     def test_divides(self):
         self.assertEqual(divided_fault(TWO, u("1"), u("x"), [Divided(TWO, (), (), ())]), "divides")
-        self.assertEqual(divided_fault(TWO, u("0", "1"), u("x", "1"), [Divided(TWO, u("0", "1"), u("1"), ())]), "divides")
-        self.assertEqual(divided_fault(TWO, u("x", "1"), u("0", "1"), [Divided(TWO, u("0", "1"), u("1"), ())]), "divides")
+        self.assertEqual(divided_fault(TWO, u("0", "1"), u("x", "1"), [Divided(TWO, u("0", "1"), u("1"), ())]),
+                         "divides")
+        self.assertEqual(divided_fault(TWO, u("x", "1"), u("0", "1"), [Divided(TWO, u("0", "1"), u("1"), ())]),
+                         "divides")
         self.assertEqual(divided_fault(TWO, (), u("x"), [Divided(TWO, u("0", "1"), (), ())]), "divides")
         told = [Divided(ZERO, u("0", "1"), (), ()), Divided(ONE, u("3"), (), ())]
         self.assertEqual(divided_fault(PAIR, u("1"), u("1"), told), "monic")
@@ -218,7 +220,8 @@ class DividedFaultTest(Case):
         for turn in range(30):
             one, roots = split_tower(dice, SHAPES[turn % len(SHAPES)])
             many = len(one.letters)
-            rows = [[some_element(dice, many, terms=2, with_t=False) for _ in range(dice.randint(0, 3))] for _ in range(2)]
+            rows = [[some_element(dice, many, terms=2, with_t=False) for _ in range(dice.randint(0, 3))]
+                    for _ in range(2)]
             found = common_divisors(one, *rows)
             self.assertIsNone(divided_fault(one, *rows, found))
             element = with_root(dice, one.letters, roots)
@@ -226,7 +229,8 @@ class DividedFaultTest(Case):
                      for result in found for kind in zero_parts(result.tower, element) for part in kind]
             self.assertIsNone(divided_fault(one, *rows, finer))
             last = found[-1]
-            wrong = [*found[:-1], Divided(last.tower, last.divisor + u("1", letters=one.letters), last.left, last.right)]
+            wrong = [*found[:-1],
+                     Divided(last.tower, last.divisor + u("1", letters=one.letters), last.left, last.right)]
             self.assertIn(divided_fault(one, *rows, wrong), ("divides", "sum"))
 
     def test_with_t(self):

@@ -89,7 +89,8 @@ class RunOnceTest(RunCase):
     def test_nothing_parts(self):
         for one, lines, outputs in ((TWO, ("if x * x = 2", "stop m x ** 3", "end"), ("2*x",)),
                                     (TWO, ("if x = 1", "end", "stop m 1 / (x + 1)"), ("x - 1",)),
-                                    (PAIR, ("if x ** 2 = x and x != 2", "stop m 1 / (x + 1), x", "end"), ("1 - 1/2*x", "x")),
+                                    (PAIR, ("if x ** 2 = x and x != 2", "stop m 1 / (x + 1), x", "end"),
+                                     ("1 - 1/2*x", "x")),
                                     (PAIR, ("let aa = x ** 4 - x", "stop m aa, 1 / (2 * x - 1)"), ("0", "2*x - 1")),
                                     (TWO, ("stop m",), ())):
             lots = run_once(program(*lines), one)
@@ -180,7 +181,8 @@ class LettersTest(RunCase):
 
     def test_lacking(self):
         told = program("stop m", "stop n y + t + a1")
-        for one, free, letter in ((tower("x: x"), False, "a1"), (tower("a1: a1"), False, "t"), (tower("a1: a1"), True, "y"),
+        for one, free, letter in ((tower("x: x"), False, "a1"), (tower("a1: a1"), False, "t"),
+                                  (tower("a1: a1"), True, "y"),
                                   (tower("a1: a1", "y: y"), False, "t"), (EMPTY, True, "a1"),
                                   (tower("t: t", "a1: a1"), True, "y"), (tower("t: t", "y: y"), False, "a1")):
             self.refused(LackingLetter, {"letter": letter}, run_once, told, one, None, free)
@@ -203,7 +205,8 @@ class LettersTest(RunCase):
         one = tower("t: t**2 - 3", "x: x**2 - t")
         for free in (False, True):
             lots = run_once(program("stop m t * t, x ** 4"), one, None, free)
-            self.assertEqual([(lot.tower, lot.outputs) for lot in lots], [(one, (e("3", ("t", "x")), e("3", ("t", "x"))))])
+            self.assertEqual([(lot.tower, lot.outputs) for lot in lots],
+                             [(one, (e("3", ("t", "x")), e("3", ("t", "x"))))])
 
     def test_0_is_the_quotient_0(self):
         told = program("if t = 0 or x * x - t != 0 or x = 1 or t = 1 / 2", "stop m", "end", "stop n")
@@ -221,7 +224,8 @@ class NotesTest(RunCase):
             self.same(notes.joined, p("t - 3"))
 
     def test_what_is_taken_as_not_0(self):
-        _, notes = noted(run_system, program("if x = 1", "end", "stop m 1 / (t - 5), 1 / x"), system("x: x**2 - t", free=True))
+        _, notes = noted(run_system, program("if x = 1", "end", "stop m 1 / (t - 5), 1 / x"),
+                         system("x: x**2 - t", free=True))
         for text in ("t", "t - 1", "t - 5"):
             self.assertTrue(is_noted(notes, p(text)))
 

@@ -1,4 +1,4 @@
-"""Determinants and linear equations over quotients, and what is told by them of elements: what [3.4] and [3.6] lean on."""
+"""Determinants and linear equations over quotients, norms and inverses: what [3.4] and [3.6] lean on."""
 
 import itertools
 import unittest

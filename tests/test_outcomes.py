@@ -96,7 +96,8 @@ class LotsAtTest(Case):
         self.assertEqual(lots_at((), (3, 1)), ())
 
     def test_pole(self):
-        for lot in (Lot(FREE, "m", (e("(1)/(t - 1)", "x"),), (), (0,)), Lot(tower("x: x - (1)/(t - 1)"), "m", (), (), (0,)),
+        for lot in (Lot(FREE, "m", (e("(1)/(t - 1)", "x"),), (), (0,)),
+                    Lot(tower("x: x - (1)/(t - 1)"), "m", (), (), (0,)),
                     Lot(TWO, "m", (e("x", "x"), e("(t)/(t**2 - 1)*x", "x")), (), (0,))):
             self.refused(Pole, {"at": (1, 1)}, lots_at, [Lot(TWO, "m", (), (), ()), lot], (1, 1))
             self.assertEqual(len(lots_at([lot], (2, 1))), 1)
@@ -141,7 +142,8 @@ class LotsFaultTest(Case):
             lots = run_once(told, one)
             self.assertIsNone(lots_fault(told, one, lots))
             element = with_root(dice, one.letters, roots)
-            finer = [Lot(part, lot.mark, [element_plus(reduced(part, output), part.equations[-1]) for output in lot.outputs],
+            finer = [Lot(part, lot.mark,
+                         [element_plus(reduced(part, output), part.equations[-1]) for output in lot.outputs],
                          lot.answers, lot.walked)
                      for lot in lots for kind in zero_parts(lot.tower, element) for part in kind]
             self.assertIsNone(lots_fault(told, one, finer))
@@ -154,7 +156,8 @@ class LotsFaultTest(Case):
         told = program("let aa = x", "stop m aa")
         self.assertIsNone(lots_fault(told, PAIR, [Lot(ZERO, "m", ((),), (), (0, 1)),
                                                   Lot(ONE, "m", (e("1", "x"),), (), (0, 1))]))
-        self.assertIsNone(lots_fault(program("stop m 1 / (x - 7)"), TWO, [Lot(TWO, "m", (e("-1/47*x - 7/47", "x"),), (), (0,))]))
+        self.assertIsNone(lots_fault(program("stop m 1 / (x - 7)"), TWO,
+                                     [Lot(TWO, "m", (e("-1/47*x - 7/47", "x"),), (), (0,))]))
 
     def test_words_of_parts_fault_come_first(self):
         wrong = "wrong"

@@ -60,7 +60,8 @@ class PartsFaultTest(Case):
         self.assertEqual(parts_fault(TWO, []), "lacking")
         self.assertEqual(parts_fault(EMPTY, ()), "lacking")
         self.assertEqual(parts_fault(SQUARE, [tower("x: x", "y: y**2 - y"), tower("x: x - 1", "y: y")]), "lacking")
-        self.assertEqual(parts_fault(tower("x: x**2 - 2", "y: y**2 - 2"), [tower("x: x**2 - 2", "y: y - x")]), "lacking")
+        self.assertEqual(parts_fault(tower("x: x**2 - 2", "y: y**2 - 2"), [tower("x: x**2 - 2", "y: y - x")]),
+                         "lacking")
 
     def test_several_at_once(self):
         other, bent = tower("y: y"), tower("x: x**2")
@@ -179,7 +180,8 @@ class MeetTest(Case):
             if turn % 2 == 0:
                 other, others = split_tower(dice, shape)
             else:
-                other = dice.choice([part for row in zero_parts(one, with_root(dice, one.letters, roots)) for part in row])
+                kinds_of_parts = zero_parts(one, with_root(dice, one.letters, roots))
+                other = dice.choice([part for row in kinds_of_parts for part in row])
                 one, other = dice.choice(((one, other), (other, one)))
             common, rest = meet_towers(one, other)
             points = points_in(one, points)
@@ -225,7 +227,8 @@ class MeetTest(Case):
             other, others = split_tower(dice, shape, with_t=True)
             if turn % 2 == 0:
                 other, others = one.over(len(shape)), roots
-                one = dice.choice([part for row in zero_parts(one, with_root(dice, one.letters, roots)) for part in row])
+                kinds_of_parts = zero_parts(one, with_root(dice, one.letters, roots))
+                one = dice.choice([part for row in kinds_of_parts for part in row])
             (common, rest), notes = noted(meet_towers, one, other)
             for number in good_samples(notes, roots, others):
                 whole = points_in(tower_set_t(one, number), points_of(roots, number))

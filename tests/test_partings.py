@@ -55,7 +55,8 @@ class PartingTest(Case):
 
     def test_keeps_what_it_is_given(self):
         found = Parting(3, e("x", "x"), PAIR, [ZERO], [ONE])
-        self.assertEqual(vars(found), {"line": 3, "element": e("x", "x"), "tower": PAIR, "zeros": (ZERO,), "others": (ONE,)})
+        self.assertEqual(vars(found),
+                         {"line": 3, "element": e("x", "x"), "tower": PAIR, "zeros": (ZERO,), "others": (ONE,)})
 
     def test_equal(self):
         one = Parting(3, e("x", "x"), PAIR, (ZERO,), (ONE,))
@@ -137,7 +138,8 @@ class PartingsTest(Case):
 
     def test_at_divisions_tests_and_values(self):
         for told, line in ((program("let aa = 1", "let bb = aa / x"), 1), (program("let aa = 1", "stop m 1, 2 / x"), 1),
-                           (program("if 2 = 1 / x", "end"), 0), (program("for 2 times", "if 1 = 2 or x = 0", "end", "end"), 1)):
+                           (program("if 2 = 1 / x", "end"), 0),
+                           (program("for 2 times", "if 1 = 2 or x = 0", "end", "end"), 1)):
             partings, lots = partings_of(told, PAIR)
             self.assertEqual(partings, (Parting(line, e("x", "x"), PAIR, (ZERO,), (ONE,)),))
             self.assertEqual(len(lots), 2)

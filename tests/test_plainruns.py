@@ -21,7 +21,8 @@ class OutcomeTest(Case):
         one = Outcome("m", ((1, 2),), ((0, 0, True),), (0, 1))
         self.assertTrue(one == Outcome("m", [(1, 2)], [(0, 0, True)], [0, 1]))
         for other in (Outcome("n", ((1, 2),), ((0, 0, True),), (0, 1)), Outcome("m", (), ((0, 0, True),), (0, 1)),
-                      Outcome("m", ((1, 2),), ((0, 0, False),), (0, 1)), Outcome("m", ((1, 2),), ((0, 0, True),), (0,))):
+                      Outcome("m", ((1, 2),), ((0, 0, False),), (0, 1)),
+                      Outcome("m", ((1, 2),), ((0, 0, True),), (0,))):
             self.assertFalse(one == other)
 
 
@@ -119,7 +120,8 @@ class TestsTest(RunCase):
     def asks(self, tests, number, answers, yes):
         """Check the answers of an if line at x and the side that is taken."""
         rows = tuple((0, test, answer) for test, answer in answers)
-        self.runs(program("if " + tests, "stop yes", "else", "stop no", "end"), number, "yes" if yes else "no", (), rows,
+        self.runs(program("if " + tests, "stop yes", "else", "stop no", "end"), number, "yes" if yes else "no", (),
+                  rows,
                   (0, 1 if yes else 3))
 
     def test_one_test(self):
@@ -140,7 +142,8 @@ class TestsTest(RunCase):
         self.asks("x = 1 or x = 2 and x != 2", 2, ((0, False), (1, True), (2, False)), False)
         self.asks("x = 1 and x = 2 or x != 3", 2, ((0, False), (2, True)), True)
         self.asks("x = 1 and x = 2 or x != 3", 3, ((0, False), (2, False)), False)
-        self.asks("x = 1 and x = 2 and x = 3 or x = 4 or x = 5 and x != 4", 4, ((0, False), (3, True), (5, False)), False)
+        self.asks("x = 1 and x = 2 and x = 3 or x = 4 or x = 5 and x != 4", 4, ((0, False), (3, True), (5, False)),
+                  False)
         self.asks("x = 5 or x = 6 or x = 7 and x = 7 and x = 8 or x = 5", 5, ((0, True), (3, False), (5, True)), True)
 
     def test_what_is_passed_over_is_not_reckoned(self):

@@ -121,7 +121,8 @@ class PlainUppersTest(Case):
         upper = u("-x", "0", "1", letters="xyzu")
         found = plain_uppers(one, upper)
         self.assertEqual(sorted(len(plain) for _, plain in found), [2, 3])
-        self.assertEqual(plain_uppers(one, u("-u", "0", "1", letters="xyzu")), ((one, u("-u", "0", "1", letters="xyzu")),))
+        self.assertEqual(plain_uppers(one, u("-u", "0", "1", letters="xyzu")),
+                         ((one, u("-u", "0", "1", letters="xyzu")),))
 
     def test_with_t(self):
         dice = dice_of(241)

@@ -90,8 +90,10 @@ class ExpressionsTest(Refusals):
                 self.wrong((line, END), 0, what)
 
     def test_each_kind(self):
-        for thing in (("number", 0), ("number", 7), ("letter", "x"), ("letter", "t"), ("letter", "t9"), ("letter", "a1"),
-                      ("negative", X), ("plus", X, ONE), ("minus", X, ONE), ("times", X, ONE), ("over", X, ("number", 0)),
+        for thing in (("number", 0), ("number", 7), ("letter", "x"), ("letter", "t"), ("letter", "t9"),
+                      ("letter", "a1"),
+                      ("negative", X), ("plus", X, ONE), ("minus", X, ONE), ("times", X, ONE),
+                      ("over", X, ("number", 0)),
                       ("power", X, 0), ("power", X, 4), ("over", ("negative", ("power", X, 2)), ("plus", ONE, ONE))):
             self.expression(thing, True)
         Program((("let", "aa", ONE), ("let", "bb", ("plus", ("name", "aa"), ("name", "aa")))))
@@ -102,7 +104,8 @@ class ExpressionsTest(Refusals):
                                    ("letter", "x0"), ("letter", "x10"), ("letter", 1), ("letter",), ("name", "x"),
                                    ("name", "let"), ("name", "aa1"), ("name", None), ("negative",), ("negative", 1),
                                    ("negative", X, X), ("plus", X), ("plus", X, X, X), ("plus", X, 1), ("plus", [], X),
-                                   ("power", X, 5), ("power", X, -1), ("power", X, True), ("power", X), ("power", X, ONE),
+                                   ("power", X, 5), ("power", X, -1), ("power", X, True), ("power", X),
+                                   ("power", X, ONE),
                                    ("power", X, 2, 2), ("power", "x", 2), ["number", 1], ("Number", 1), (1, 2),
                                    (("number", 1),), ("sum", X, X), (None, X), ("letter", ("x",)), ("times", X, "x"),
                                    ("number", (1, 1)), ("over", X, ("over", X))):

@@ -71,8 +71,10 @@ class ReadLinesTest(Reading):
 
     def test_a_tab_is_no_blank(self):
         for text, what in (("\tstop m", "word"), ("\t", "word"), ("stop\tm", "word"), ("let\taa = 1", "word"),
-                           ("stop m\t", "mark"), ("stop m\t1", "mark"), ("let aa\t= 1", "sign"), ("let aa =\t1", "sign"),
-                           ("for 3\ttimes", "times"), ("if x\t= 1", "sign"), ("stop m 1,\t2", "sign"), ("else\t", "word"),
+                           ("stop m\t", "mark"), ("stop m\t1", "mark"), ("let aa\t= 1", "sign"),
+                           ("let aa =\t1", "sign"),
+                           ("for 3\ttimes", "times"), ("if x\t= 1", "sign"), ("stop m 1,\t2", "sign"),
+                           ("else\t", "word"),
                            ("stop \tm", "mark"), ("let \taa = 1", "sign"), ("end\r", "word")):
             self.alone(text, what)
 
@@ -102,15 +104,18 @@ class ReadLinesTest(Reading):
     def test_for(self):
         for text in ("for", "for 3", "for times", "for 7 times", "for 03 times", "for 00 times", "for x times",
                      "for -1 times", "for 3 times 3", "for 3 times,", "for 3 time", "for 3 timess", "for 3 times2",
-                     "for (3) times", "for 10 times", "for 3.0 times", "for 1+1 times", "for three times", "for 3 # times"):
+                     "for (3) times", "for 10 times", "for 3.0 times", "for 1+1 times", "for three times",
+                     "for 3 # times"):
             self.alone(text, "times")
         self.assertEqual(read_program("for 0 times\nend\nfor 6 times\nend").lines[::2], (("for", 0), ("for", 6)))
 
     def test_stop(self):
         for text in ("stop", "stop  ", "stop broken", "stop end", "stop M", "stop x1", "stop m,", "stop m(1)",
-                     "stop abcdefghi", "stop 1", "stop (m)", "stop broken 1,,,", "stop m,1,2,3,4", "stop end 1, 2, 3, 4"):
+                     "stop abcdefghi", "stop 1", "stop (m)", "stop broken 1,,,", "stop m,1,2,3,4",
+                     "stop end 1, 2, 3, 4"):
             self.alone(text, "mark")
-        for text in ("stop m 1, 2, 3, 4", "stop m ,,,", "stop m ,,,,,,", "stop m (,,,", "stop m 1,,,#", "stop m ( , ) , ,"):
+        for text in ("stop m 1, 2, 3, 4", "stop m ,,,", "stop m ,,,,,,", "stop m (,,,", "stop m 1,,,#",
+                     "stop m ( , ) , ,"):
             self.alone(text, "values")
         for text in ("stop m ,", "stop m 1,", "stop m 1,,2", "stop m ,,", "stop m 1 2", "stop m (1, 2)", "stop m #",
                      "stop m 1;2", "stop m end", "stop m -", "stop m 1 = 1"):
@@ -173,7 +178,8 @@ class ReadExpressionsTest(Reading):
         for text, told in (("-x", ("negative", X)), ("--x", ("negative", ("negative", X))),
                            ("-x ** 2", ("negative", ("power", X, 2))), ("-x * y", ("times", ("negative", X), Y)),
                            ("(-x) ** 2", ("power", ("negative", X), 2)), ("x - -y", ("minus", X, ("negative", Y))),
-                           ("x * -y", ("times", X, ("negative", Y))), ("x / --y", ("over", X, ("negative", ("negative", Y)))),
+                           ("x * -y", ("times", X, ("negative", Y))),
+                           ("x / --y", ("over", X, ("negative", ("negative", Y)))),
                            ("-x - y", ("minus", ("negative", X), Y)), ("x--y", ("minus", X, ("negative", Y))),
                            ("x + - - y", ("plus", X, ("negative", ("negative", Y)))), ("-(x)", ("negative", X)),
                            ("-x / -y", ("over", ("negative", X), ("negative", Y)))):
@@ -242,7 +248,8 @@ class ProgramTextTest(Case):
                      "x * (1 / 2)", "-x - -y", "2 ** 2", "-(-x) ** 2", "(x - y) / (x + y)"):
             self.assertEqual(expression_text(expression_of(text)), text)
         for text, told in (("((x)) + ((y))", "x + y"), ("(x + y) + 1", "x + y + 1"), ("(x * y) / 2", "x * y / 2"),
-                           ("(x) ** 2", "x ** 2"), ("(-x) * y", "-x * y"), ("-(-x)", "--x"), ("x + (y * 2)", "x + y * 2"),
+                           ("(x) ** 2", "x ** 2"), ("(-x) * y", "-x * y"), ("-(-x)", "--x"),
+                           ("x + (y * 2)", "x + y * 2"),
                            ("x * (-y)", "x * -y"), ("-(x ** 2)", "-x ** 2"), ("(x ** 2) * y", "x ** 2 * y"),
                            ("x-(-y)", "x - -y"), ("1/2", "1 / 2"), ("(-x) + y", "-x + y")):
             self.assertEqual(expression_text(expression_of(text)), told)

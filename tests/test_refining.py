@@ -67,7 +67,8 @@ class ApartTest(RefiningCase):
         self.assertEqual(apart_towers([EMPTY, EMPTY, EMPTY]), (EMPTY,))
         self.assertEqual(apart_towers([TWO, tower("x: x**2 - 2")]), (TWO,))
         found = apart_towers((TWO, tower("x: x**4 - 5*x**2 + 6")))
-        self.assertEqual(sorted(part.equations for part in found), sorted([TWO.equations, tower("x: x**2 - 3").equations]))
+        self.assertEqual(sorted(part.equations for part in found),
+                         sorted([TWO.equations, tower("x: x**2 - 3").equations]))
         found = apart_towers([tower("x: x**2 - 2", "y: y - x"), tower("x: x**2 - 2", "y: y**2 - 2")])
         self.assertEqual(sum(part.count for part in found), 4)
 
@@ -83,9 +84,11 @@ class LessTest(RefiningCase):
         dice = dice_of(397)
         for turn in range(60):
             shapes = SHAPES[turn % 3]
-            told, others = apart_by_dice(dice, shapes, dice.randint(0, 3)), apart_by_dice(dice, shapes, dice.randint(0, 3))
-            if turn % 2 == 0:
-                others.extend(row for row in told if dice.random() < 0.5 and not any(row[1] & taken for _, taken in others))
+            told = apart_by_dice(dice, shapes, dice.randint(0, 3))
+            others = apart_by_dice(dice, shapes, dice.randint(0, 3))
+            for one, own in told if turn % 2 == 0 else ():
+                if dice.random() < 0.5 and not any(own & taken for _, taken in others):
+                    others.append((one, own))
             found = less_towers([one for one, _ in told], tuple(one for one, _ in others))
             self.assertIs(found.__class__, tuple)
             self.shares(found, union(own for _, own in told) - union(own for _, own in others))
@@ -189,7 +192,8 @@ class CountedTest(RefiningCase):
     def test_followed_by_hand(self):
         one, other = tower("x: x**2 - 2", "y: y**3 - x"), tower("x: x**2 - 2", "y: y")
         self.assertEqual(counted_beginnings([one, other]), ((TWO, 4),))
-        found = counted_beginnings([tower("x: x**2 - x", "y: y"), tower("x: x", "y: y**2 - 1"), tower("x: x - 5", "y: y")])
+        found = counted_beginnings([tower("x: x**2 - x", "y: y"), tower("x: x", "y: y**2 - 1"),
+                                    tower("x: x - 5", "y: y")])
         self.assertEqual(sorted((part.equations, number) for part, number in found),
                          sorted([(tower("x: x").equations, 3), (tower("x: x - 1").equations, 1),
                                  (tower("x: x - 5").equations, 1)]))
@@ -274,7 +278,8 @@ class NotesTest(RefiningCase):
 
     def test_what_is_taken(self):
         notes = Notes()
-        self.assertEqual(apart_towers([tower("x: x - t"), tower("x: x - 1")], notes), (tower("x: x - t"), tower("x: x - 1")))
+        self.assertEqual(apart_towers([tower("x: x - t"), tower("x: x - 1")], notes),
+                         (tower("x: x - t"), tower("x: x - 1")))
         self.assertTrue(is_noted(notes, p("t - 1")))
         for call in (apart_towers, refine_towers, counted_beginnings, lambda one, kept: less_towers(one, (), kept),
                      lambda one, kept: less_towers((), one, kept)):

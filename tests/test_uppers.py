@@ -54,7 +54,8 @@ class TimesTest(Case):
     def test_followed_by_hand(self):
         self.same(upper_times(ONE, u("x", "1"), u("-x", "1")), u("-2", "0", "1"))
         self.same(upper_times(ONE, u("x", "x"), u("x")), u("2", "2"))
-        self.same(upper_times(EMPTY, u("1", "t", letters=()), u("t", "1", letters=())), u("t", "1 + t**2", "t", letters=()))
+        self.same(upper_times(EMPTY, u("1", "t", letters=()), u("t", "1", letters=())),
+                  u("t", "1 + t**2", "t", letters=()))
 
     def test_products_that_lose_their_head(self):
         one = tower("x: x**2 - x")

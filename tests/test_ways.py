@@ -67,7 +67,8 @@ class KnownTest(Case):
                          ((), None, None, None, None, None, None, None))
 
     def test_both_sides_of_an_if(self):
-        self.assertEqual(known("if x = 1", "let aa = 1", "let bb = 1", "else", "let bb = 2", "let cc = 2", "end", "stop m"),
+        self.assertEqual(known("if x = 1", "let aa = 1", "let bb = 1", "else", "let bb = 2", "let cc = 2", "end",
+                               "stop m"),
                          ((), (), ("aa",), ("aa", "bb"), (), ("bb",), ("bb",), ("bb",)))
 
     def test_without_an_else_line(self):
