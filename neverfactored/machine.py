@@ -115,7 +115,6 @@ def run_once(program, tower, notes=None, free=False):
 
 def run_system(program, system, notes=None):
     """Return the lots of a program at all points of a system."""
-    refuse_letters(program, system.letters + ("t",) if system.free else system.letters)
     lots = ()
     for tower in plain_towers(system, notes):
         lots = lots + run_once(program, tower, notes, system.free)

@@ -64,7 +64,6 @@ def note_single_roots(notes, tower, upper):
 
 def plain_towers(system, notes=None):
     """Return plain towers without a common point that together have just the points of the system."""
-    note_bottoms(notes, system.equations)
     towers = [Tower((), ())]
     for letter, equation in zip(system.letters, system.equations):
         rows = coefficients_of(equation)

@@ -87,9 +87,9 @@ class LineReader(TokenReader):
         kind, piece = self.token()
         if kind == "number":
             return ("number", int(self.next_piece()))
-        if kind == "word" and is_readable(piece):
+        if is_readable(piece):
             return ("letter", self.next_piece())
-        if kind == "word" and is_name(piece):
+        if is_name(piece):
             return ("name", self.next_piece())
         raise BadProgram(self.number, "sign")
 
@@ -125,10 +125,10 @@ def read_line(text, number):
 
 def read_let(reader):
     """Read a let line behind its first word."""
-    kind, name = reader.token()
-    if kind == "word" and is_readable(name):
+    name = reader.piece()
+    if is_readable(name):
         raise BadProgram(reader.number, "letter")
-    if kind != "word" or not is_name(name):
+    if not is_name(name):
         raise BadProgram(reader.number, "sign")
     reader.next_piece()
     reader.pass_sign("=")

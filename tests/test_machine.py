@@ -193,6 +193,7 @@ class LettersTest(RunCase):
             self.refused(LackingLetter, {"letter": letter}, run_system, told, one, Notes())
 
     def test_t_as_the_free_letter(self):
+        self.same(run_once(program("stop m t"), TWO, free=True)[0].outputs, (e("t", "x"),))
         told = program("stop m t * x, 1 / t")
         lots = run_once(told, TWO, free=True)
         self.assertEqual([(lot.tower, lot.outputs) for lot in lots], [(TWO, (e("t*x", "x"), e("(1)/(t)", "x")))])

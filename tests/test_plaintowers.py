@@ -144,6 +144,9 @@ class PlainUppersTest(Case):
         self.assertTrue(is_noted(notes, p("t")))
         plain_uppers(TWO, u("(1)/(t - 4)*x", "1"), notes)
         self.assertTrue(is_noted(notes, p("t - 4")))
+        # This bottom falls when the upper poly is reduced.
+        plain_uppers(TWO, u("(1)/(t - 6)*x**2 - (2)/(t - 6)", "1"), notes)
+        self.assertTrue(is_noted(notes, p("t - 6")))
         notes = Notes()
         plain_uppers(TWO, u("-x", "0", "1"), notes)
         plain_uppers(TWO, u("2", "-2*x", "1"), notes)

@@ -205,6 +205,7 @@ class ReadExpressionsTest(Reading):
             self.alone("let aa = " + text, "sign")
             self.alone("stop m 1, " + text, "sign")
         self.alone("if " + "(" * 41 + "x" + ")" * 41 + " = 1", "sign")
+        self.alone("let aa = (1) + (2) * ((3)) - " + "(" * 41 + "x" + ")" * 41, "sign")
 
     def test_thousands(self):
         for text in ("-" * 5000 + "x", " - ".join(["x"] * 5000), "*".join(["x"] * 100000), "x" + "--" * 3000 + "y"):
