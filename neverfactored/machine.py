@@ -73,7 +73,7 @@ class TowerGround:
         return tower_power(self.tower, one, power)
 
     def is_nought(self, one):
-        """Return whether a value is 0 at all points and not at none."""
+        """Return True if a value is 0 at all points, False if at none; raise Parted if at some."""
         zeros, others = zero_parts(self.tower, one, self.notes)
         if zeros and others:
             raise Parted(one, zeros, others)
