@@ -2,7 +2,7 @@
 
 from neverfactored.divisors import zero_parts
 from neverfactored.element import element_minus, element_negative, element_plus
-from neverfactored.errors import DividedByNought, Parted
+from neverfactored.errors import DividedByNought, HasFree, Parted
 from neverfactored.inverses import inverse_over
 from neverfactored.notes import note_bottoms
 from neverfactored.plaintowers import plain_towers
@@ -119,3 +119,24 @@ def run_system(program, system, notes=None):
     for tower in plain_towers(system, notes):
         lots = lots + run_once(program, tower, notes, system.free)
     return lots
+
+
+def refuse_program(program, system):
+    """Refuse a system with the free letter, and a program that reads other letters than its own."""
+    if system.has_free:
+        raise HasFree()
+    refuse_letters(program, system.letters)
+
+
+def run_without_free(program, system):
+    """Return the lots of a program at all points of a system, which must not have the free letter."""
+    refuse_program(program, system)
+    return run_system(program, system)
+
+
+def lots_by_mark(lots):
+    """Return the ascending list of couples (mark, list of the lots with this mark)."""
+    found = {}
+    for lot in lots:
+        found.setdefault(lot.mark, []).append(lot)
+    return [(mark, found[mark]) for mark in sorted(list(found))]

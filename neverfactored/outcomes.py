@@ -5,18 +5,13 @@ from neverfactored.errors import HasFree, NoPoint
 from neverfactored.machine import Lot, run_once
 from neverfactored.parting import is_zero_at, parts_fault
 from neverfactored.plainruns import Outcome
-from neverfactored.towers import has_point, tower_set_t
+from neverfactored.towers import has_point, t_stands_in, tower_set_t
 from neverfactored.walking import refuse_letters
-
-
-def lot_has_free(lot):
-    """Return whether the free letter stands in an equation or a value of a lot."""
-    return lot.tower.has_free or any([element_has_t(output) for output in lot.outputs])
 
 
 def outcome_at(lots, numbers):
     """Return the outcome at a point whose numbers are ratios."""
-    if any([lot_has_free(lot) for lot in lots]):
+    if any([t_stands_in(lot.tower, lot.outputs) for lot in lots]):
         raise HasFree()
     for lot in lots:
         if has_point(lot.tower, numbers):

@@ -60,9 +60,29 @@ def refine_towers(towers, notes=None):
 
 def refined_over(towers, many, notes):
     """Return parts of the towers of which any two are equal or without a common point over so many letters."""
-    bases = common_parts([tower.over(many) for tower in towers], notes)
-    return tuple([carry_tower(tower, base)
-                  for tower in towers for base in bases if is_within(base, tower.over(many))])
+    return tuple([carry_tower(towers[place], base) for place, base in places_over(towers, many, notes)])
+
+
+def places_over(towers, many, notes):
+    """Return couples of a tower's number and a tower over so many letters, one for each part that stands over it.
+
+    Any two of the latter are equal or without a common point.
+    """
+    ahead = [tower.over(many) for tower in towers]
+    bases = common_parts(ahead, notes)
+    return [(place, base) for place, tower in enumerate(ahead) for base in bases if is_within(base, tower)]
+
+
+def gathered_over(couples):
+    """Return couples of a tower and the list of the things that couples (tower, thing) tell for it."""
+    rows = []
+    for base, thing in couples:
+        found = [things for tower, things in rows if tower == base]
+        if found:
+            found[0].append(thing)
+        else:
+            rows.append((base, [thing]))
+    return rows
 
 
 def common_parts(towers, notes):
@@ -83,9 +103,5 @@ def counted_beginnings(towers, notes=None):
     if not towers:
         return ()
     many = len(towers[0].letters) - 1
-    found = refined_over(towers, many, notes)
-    bases = []
-    for tower in found:
-        if tower.over(many) not in bases:
-            bases.append(tower.over(many))
-    return tuple([(base, sum([tower.degrees[many] for tower in found if tower.over(many) == base])) for base in bases])
+    couples = [(base, towers[place].degrees[many]) for place, base in places_over(towers, many, notes)]
+    return tuple([(base, sum(degrees)) for base, degrees in gathered_over(couples)])

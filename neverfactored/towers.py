@@ -50,6 +50,11 @@ class Tower:
         return Tower(self.letters + (letter,), self.equations + (equation,))
 
 
+def t_stands_in(tower, values):
+    """Return whether the free letter stands in an equation of the tower or in one of the elements."""
+    return tower.has_free or any([element_has_t(value) for value in values])
+
+
 def tower_fault(equation, degrees, t_is_named):
     """Return the word for what is wrong with the equation behind equations of these degrees, or None."""
     if not is_element(equation, len(degrees) + 1):

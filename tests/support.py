@@ -8,7 +8,10 @@ from neverfactored.element import (
     make_element, widened)
 from neverfactored.elementtext import read_element, read_poly
 from neverfactored.errors import BadProgram, BadSystem, TooMany
+from neverfactored.forms import Form
+from neverfactored.joining import Piece
 from neverfactored.notes import Notes
+from neverfactored.plainruns import run_at
 from neverfactored.polys import make_poly, poly_at, poly_over, poly_plain
 from neverfactored.programs import Program
 from neverfactored.programtext import read_program
@@ -52,6 +55,23 @@ class Case(unittest.TestCase):
         """Check that plain towers share out the points of a tower, all of them ratios."""
         shared = [point for part in parts for point in self.whole_points(part, points)]
         self.assertEqual(sorted(shared), sorted(points))
+
+    def is_form(self, form, letters, values):
+        """Check that a form is the one of the points, all of them ratios, with these values, told in a dict."""
+        self.assertIsInstance(form, Form)
+        self.assertEqual(form.letters, tuple(letters))
+        self.assertIs(form.pieces.__class__, tuple)
+        self.same(form.count, len(values))
+        groups = signature_groups(set(values))
+        self.assertEqual([piece.tower.degrees[:0:-1] for piece in form], [order for order, _ in groups])
+        for piece, (_, points) in zip(form, groups):
+            self.assertIsInstance(piece, Piece)
+            self.assertEqual((piece.tower.letters, piece.tower.count), (form.letters, len(points)))
+            for point in points:
+                self.assertTrue(has_point(piece.tower, point))
+                self.assertEqual(tuple(element_at(output, point) for output in piece.outputs), values[point])
+            for output in piece.outputs:
+                self.same(reduced(piece.tower, output), output)
 
     def whole_points(self, part, points):
         """Return the points of a part; check that it has as many of the points as its count, so no others."""
@@ -302,6 +322,44 @@ def some_program(dice, letters, depth=2):
             return Program(some_block(dice, letters, [], depth))
         except BadProgram:
             pass
+
+
+def signature_groups(points):
+    """Return the ascending couples (signature but for its last number, points with it), counted by its definition."""
+    return sorted(groups_of({point: [point] for point in points})) if points else []
+
+
+def groups_of(beginnings):
+    """Return couples (rest of the signature, points) of a dict of beginnings and the points that stand over each."""
+    if any(len(beginning) < 2 for beginning in beginnings):
+        return [((), sum(beginnings.values(), []))]
+    above = {}
+    for beginning, points in beginnings.items():
+        above.setdefault(beginning[:-1], []).append(points)
+    found = []
+    for number in set(map(len, above.values())):
+        same = {beginning: sum(rows, []) for beginning, rows in above.items() if len(rows) == number}
+        found.extend([((number,) + order, points) for order, points in groups_of(same)])
+    return found
+
+
+def outcomes_at(told, one, roots):
+    """Return a dict of the outcomes of a program at the points of a split tower or system."""
+    return {point: run_at(told, one.letters, point) for point in points_of(roots)}
+
+
+def changed_program(dice, told):
+    """Return a program by dice that is perhaps not the told one at one line."""
+    lines = list(told.lines)
+    place = dice.randrange(len(lines))
+    line = lines[place]
+    if line[0] == "let":
+        lines[place] = ("let", line[1], ("times", line[2], ("letter", dice.choice(told.letters or ("x",)))))
+    if line[0] == "stop" and line[2]:
+        lines[place] = ("stop", line[1], (("plus", line[2][0], ("letter", "x")),) + line[2][1:])
+    if line[0] == "if":
+        lines[place] = ("if", line[1][::-1], line[2])
+    return Program(lines)
 
 
 def dice_of(seed):

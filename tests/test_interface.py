@@ -55,6 +55,16 @@ FUNCTIONS = {
     "answerrows": ["answer_rows(program, system)"],
     "refining": ["apart_towers(towers, notes=None)", "less_towers(towers, others, notes=None)",
                  "refine_towers(towers, notes=None)", "counted_beginnings(towers, notes=None)"],
+    "joining": ["join_pieces(pieces)"],
+    "forms": ["form_of(letters, towers)", "form_of_lots(letters, lots)", "system_form(system)", "form_over(form, k)",
+              "form_meet(one, other)", "form_join(one, other)", "form_less(one, other)", "same_points(one, other)",
+              "form_has(form, numbers)", "values_at(form, numbers)", "form_fault(letters, pieces)"],
+    "programforms": ["program_form(program, system)"],
+    "sameness": ["programs_alike(system, one, other)", "apart_fault(system, one, other, apart)",
+                 "apart_points(system, one, other)"],
+    "sureways": ["sure_ways(program, system)", "sure_tests(program, system)", "idle_lines(program, system)",
+                 "tests_counted(program, system)"],
+    "shortening": ["cut_sure_ways(program, system)", "drop_idle(program, system)", "shorten_program(program, system)"],
 }
 CLASSES = {
     ("towers", "Tower"): ["__init__(self, letters, equations)", "over(self, k)", "place_of(self, letter)",
@@ -69,6 +79,9 @@ CLASSES = {
     ("plainruns", "Outcome"): ["__init__(self, mark, outputs, answers, walked)", "__eq__(self, other)"],
     ("machine", "Lot"): ["__init__(self, tower, mark, outputs, answers, walked)", "__eq__(self, other)"],
     ("partings", "Parting"): ["__init__(self, line, element, tower, zeros, others)", "__eq__(self, other)"],
+    ("joining", "Piece"): ["__init__(self, tower, outputs)", "__eq__(self, other)"],
+    ("forms", "Form"): ["__init__(self, letters, pieces)", "__iter__(self)", "__len__(self)", "__eq__(self, other)"],
+    ("sameness", "Apart"): ["__init__(self, tower, mark, other_mark, place)", "__eq__(self, other)"],
 }
 PROPERTIES = {("towers", "Tower"): "has_free", ("systems", "System"): "has_free", ("notes", "Notes"): "joined"}
 
