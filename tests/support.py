@@ -214,6 +214,7 @@ def upper_set_t(upper, number):
 
 # Ratios at which what was reckoned with t is looked at.
 SAMPLES = tuple(make_ratio(top, bottom) for bottom in (1, 2) for top in range(-4, 5))
+SMALL = sorted({make_ratio(top, bottom) for bottom in (1, 2, 3, 4) for top in range(-16, 17)})
 
 
 def good_samples(notes, *roots):
@@ -360,6 +361,37 @@ def changed_program(dice, told):
     if line[0] == "if":
         lines[place] = ("if", line[1][::-1], line[2])
     return Program(lines)
+
+
+def some_free_system(dice, degrees):
+    """Return a system with the free letter by dice, most of whose points are no ratios."""
+    while True:
+        equations = []
+        for place, degree in enumerate(degrees):
+            rows = [((0,) * place + (degree,), q("1"))]
+            for _ in range(dice.randint(1, 3)):
+                exponents = tuple(dice.randint(0, 1) for _ in range(place)) + (dice.randint(0, degree - 1),)
+                poly = make_poly([(dice.randint(-2, 2), 1) for _ in range(dice.randint(1, 2))])
+                rows.append((exponents, make_quotient(poly, ((1, 1),))))
+            equations.append(make_element(rows, place + 1))
+        try:
+            return System(("x", "y", "z")[:len(degrees)], equations, True)
+        except BadSystem:
+            pass
+
+
+def with_number(thing, number):
+    """Return the lines, tests or expressions of a program with a ratio in the place of the letter t."""
+    if thing == ("letter", "t"):
+        top, bottom = number
+        size = ("over", ("number", abs(top)), ("number", bottom))
+        return ("negative", size) if top < 0 else size
+    return tuple(with_number(part, number) if isinstance(part, tuple) else part for part in thing)
+
+
+def ratio_roots(poly):
+    """Return the small ratios that are roots of a poly."""
+    return [number for number in SMALL if poly_at(poly, number) == (0, 1)]
 
 
 def dice_of(seed):

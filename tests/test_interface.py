@@ -65,6 +65,15 @@ FUNCTIONS = {
     "sureways": ["sure_ways(program, system)", "sure_tests(program, system)", "idle_lines(program, system)",
                  "tests_counted(program, system)"],
     "shortening": ["cut_sure_ways(program, system)", "drop_idle(program, system)", "shorten_program(program, system)"],
+    "sums": ["sum_over(tower, element)", "product_over(tower, element)", "full_equation(tower, element)",
+             "least_equation(tower, element)", "count_nought(tower, element)"],
+    "valuetables": ["value_table(tower, element)"],
+    "markvalues": ["marks_counted(program, system)", "sum_of_mark(program, system, mark, place)",
+                   "mean_of_mark(program, system, mark, place)", "mark_values(program, system, mark, place)",
+                   "mark_equation(program, system, mark, place)", "taken_points(program, system, mark, place, m)"],
+    "prefixes": ["ask_saying(system, saying)", "kept_points(system, saying)"],
+    "freeruns": ["free_run(program, system)", "free_outcome(run, number, numbers)"],
+    "lotsoft": ["lot_of_t(system, saying)", "same_for_all(system, one, other)", "count_lots(system, program, mark)"],
 }
 CLASSES = {
     ("towers", "Tower"): ["__init__(self, letters, equations)", "over(self, k)", "place_of(self, letter)",
@@ -82,6 +91,10 @@ CLASSES = {
     ("joining", "Piece"): ["__init__(self, tower, outputs)", "__eq__(self, other)"],
     ("forms", "Form"): ["__init__(self, letters, pieces)", "__iter__(self)", "__len__(self)", "__eq__(self, other)"],
     ("sameness", "Apart"): ["__init__(self, tower, mark, other_mark, place)", "__eq__(self, other)"],
+    ("prefixes", "Saying"): ["__init__(self, program, mark, prefix)", "__eq__(self, other)"],
+    ("freelots", "FreeLot"): ["__init__(self, kind, poly)", "__and__(self, other)", "__or__(self, other)",
+                              "__invert__(self)", "__contains__(self, x)", "__eq__(self, other)"],
+    ("freeruns", "FreeRun"): ["__init__(self, poly, general, special)", "__eq__(self, other)"],
 }
 PROPERTIES = {("towers", "Tower"): "has_free", ("systems", "System"): "has_free", ("notes", "Notes"): "joined"}
 
