@@ -23,7 +23,7 @@ def poly_of_tower(tower):
                   for coefficient in coefficients_of(tower.equations[0])])
 
 
-def lot_of(holds, noted, roots):
+def lot_from_roots(holds, noted, roots):
     """Return the free lot of what holds or not in general, and of the roots of the noted poly at these roots alone."""
     return FreeLot(ALL_BUT, poly_part(noted, roots)) if holds else FreeLot(ROOTS, roots)
 
@@ -38,7 +38,7 @@ def lot_of_t(system, saying):
     for poly in coprime_polys(notes.polys):
         for tower in kept_towers(system.special(poly), saying):
             roots = poly_times(roots, poly_of_tower(tower))
-    return lot_of(holds, notes.joined, roots)
+    return lot_from_roots(holds, notes.joined, roots)
 
 
 def same_for_all(system, one, other):
@@ -58,7 +58,7 @@ def same_for_all(system, one, other):
             roots = poly_of_tower(second.tower)
             roots = poly_part(roots, poly_common(roots, alike_poly(lot, second, polys_of_t)))
             apart = poly_times(apart, poly_part(roots, poly_common(roots, apart)))
-    return lot_of(same, notes.joined, poly_part(notes.joined, apart))
+    return lot_from_roots(same, notes.joined, poly_part(notes.joined, apart))
 
 
 def alike_poly(lot, second, polys_of):
@@ -99,8 +99,7 @@ def count_lots(system, program, mark):
     for poly in coprime_polys(notes.polys):
         for number, roots in counts_over(poly, kept_towers(system.special(poly), saying)):
             found[number] = poly_times(found.get(number, POLY_ONE), roots)
-    special = [number for number in found if number != general]
-    lots = {number: FreeLot(ROOTS, found[number]) for number in special}
+    lots = {number: FreeLot(ROOTS, found[number]) for number in found}
     lots[general] = FreeLot(ALL_BUT, poly_part(notes.joined, found.get(general, POLY_ONE)))
     return tuple([(number, lots[number]) for number in sorted(list(lots))])
 

@@ -88,7 +88,7 @@ def apart_fault(system, one, other, apart):
     if not have_mark(run_once(other, apart.tower), apart.other_mark):
         return "other"
     pairs = [(lot, second) for lot in lots for second in run_once(other, lot.tower)]
-    if not all([is_place(lot, second, apart.place) for lot, second in pairs]):
+    if not all([is_right_place(lot, second, apart.place) for lot, second in pairs]):
         return "place"
     return None
 
@@ -105,7 +105,7 @@ def have_mark(lots, mark):
     return isinstance(mark, str) and all([lot.mark == mark for lot in lots])
 
 
-def is_place(lot, second, place):
+def is_right_place(lot, second, place):
     """Return whether a place, a thing of any kind, tells where two paired lots differ at all points of the second."""
     if lot.mark != second.mark or len(lot.outputs) != len(second.outputs):
         return place is None

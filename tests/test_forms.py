@@ -246,6 +246,7 @@ class FormOverTest(Case):
         for k in (-1, 3, 4, True, False):
             self.refused(NoPlace, {"place": k}, form_over, form, k)
         self.refused(NoPlace, {"place": 1}, form_over, Form((), ()), 1)
+        self.refused(NoPlace, {"place": -1}, form_over, Form(XY, ()), -1)
 
 
 class MeetJoinLessTest(Case):

@@ -191,6 +191,17 @@ class SameTest(Case):
         self.same_at(FREE, program("stop m t, x ** 3"), program("stop m 2, x"), NONE)
         self.same_at(FREE, program("stop m t * t, t"), program("stop m 1, x * x"), roots("t**2 - 1"))
 
+    def test_several_roots_at_once(self):
+        one = system("x: x - 3", free=True)
+        for poly, left, right, lot in (("t * t - 3 * t + 2", "t * x", "x", all_but("t - 2")),
+                                       ("t * t - 3 * t + 2", "t * x, t", "x, 1", all_but("t - 2")),
+                                       ("t * t - 3 * t + 2", "t * x, 2", "x, t", all_but("t**2 - 3*t + 2")),
+                                       ("t * t - 3 * t + 2", "t * t + x", "x + 3 * t - 2", WHOLE),
+                                       ("t ** 3 - t * t - 2 * t + 2", "t ** 2 * x", "2 * x", all_but("t - 1")),
+                                       ("t ** 3 - t * t - 2 * t + 2", "t * x", "x", all_but("t**2 - 2"))):
+            told = [program(f"if {poly} = 0", "stop m " + values, "end", "stop n x") for values in (left, right)]
+            self.same_at(one, *told, lot)
+
     def test_alike_at_some_points_only(self):
         # At each t one of the two points is alike, at t = 0 there is but one.
         one = system("x: x**2 - t*x", free=True)
